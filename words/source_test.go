@@ -1,0 +1,214 @@
+package words
+
+import (
+	"bytes"
+	"errors"
+	"go/ast"
+	"go/format"
+	"go/parser"
+	"go/token"
+	"go/types"
+	"io/fs"
+	"os"
+	"path/filepath"
+	"slices"
+	"strconv"
+	"strings"
+	"testing"
+)
+
+const (
+	root      = ".."
+	mostLines = 60
+)
+
+// library: what the program may take of Go's library.
+const library = " bytes cmp container/heap errors iter maps math math/bits slices sort strconv strings sync sync/atomic unicode unicode/utf8 "
+
+type source struct {
+	path, pack string
+	text       []byte
+	set        *token.FileSet
+	file       *ast.File
+}
+
+func (s source) line(n ast.Node) string {
+	return s.path + ":" + strconv.Itoa(s.set.Position(n.Pos()).Line)
+}
+
+// sources: the program's Go files, without its tests.
+func sources(t *testing.T) []source {
+	t.Helper()
+	var all []source
+	err := filepath.WalkDir(root, func(path string, d fs.DirEntry, err error) error {
+		if err != nil {
+			return err
+		}
+		if d.IsDir() && (d.Name() == "sharedtests" || d.Name() == ".git") {
+			return filepath.SkipDir
+		}
+		if d.IsDir() || !strings.HasSuffix(path, ".go") || strings.HasSuffix(path, "_test.go") {
+			return nil
+		}
+		text, err := os.ReadFile(path)
+		if err != nil {
+			return err
+		}
+		set := token.NewFileSet()
+		file, err := parser.ParseFile(set, path, text, parser.ParseComments)
+		if err != nil {
+			return err
+		}
+		all = append(all, source{path, filepath.Base(filepath.Dir(path)), text, set, file})
+		return nil
+	})
+	if err != nil {
+		t.Fatal(err)
+	}
+	if len(all) < len(layers()) {
+		t.Fatal("only", len(all), "files of the program were found")
+	}
+	return all
+}
+
+// layers: each layer's package, and the packages of the map that it may call.
+func layers() map[string][]string {
+	return map[string][]string{
+		"api":     {},
+		"ints":    {"api"},
+		"value":   {"api"},
+		"code":    {"api", "ints", "value"},
+		"bags":    {"api", "ints", "value"},
+		"graph":   {"api", "value"},
+		"script":  {"api", "ints", "code", "graph"},
+		"store":   {"api", "graph"},
+		"lexer":   {"api", "ints"},
+		"pred":    {"api", "value"},
+		"tree":    {"api", "ints", "value", "graph", "pred"},
+		"parser":  {"api", "graph", "lexer", "tree"},
+		"plan":    {"api", "value", "graph", "pred"},
+		"build":   {"api", "graph", "tree"},
+		"types":   {"api", "plan"},
+		"trail":   {"api", "value"},
+		"gather":  {"api", "ints", "value"},
+		"sorter":  {"api", "value"},
+		"eval":    {"api", "value", "graph", "store", "pred", "types", "trail", "gather", "sorter"},
+		"rules":   {"api", "ints", "plan", "pred"},
+		"driver":  {"api", "plan", "rules"},
+		"lower":   {"api", "value", "plan"},
+		"machine": {"api", "ints", "value", "graph", "store", "pred", "plan", "types", "trail", "gather", "sorter", "lower"},
+		"engine":  {"api", "ints", "code", "script", "parser", "build", "types", "driver", "lower", "machine"},
+	}
+}
+
+func TestImports(t *testing.T) {
+	for _, s := range sources(t) {
+		for _, i := range s.file.Imports {
+			path, err := strconv.Unquote(i.Path.Value)
+			if err != nil {
+				t.Fatal(err)
+			}
+			checkImport(t, s, i, path)
+		}
+	}
+}
+
+func checkImport(t *testing.T, s source, i *ast.ImportSpec, path string) {
+	t.Helper()
+	name, own := strings.CutPrefix(path, "wayfarer/")
+	if !own {
+		if !strings.Contains(library, " "+path+" ") {
+			t.Errorf("%s: the program may not take package %s", s.line(i), path)
+		}
+		return
+	}
+	calls, from := layers()[s.pack]
+	if _, to := layers()[name]; from && to && !slices.Contains(calls, name) {
+		t.Errorf("%s: package %s may not call package %s", s.line(i), s.pack, name)
+	}
+}
+
+func TestNothingIsPrintedNorTurnedOn(t *testing.T) {
+	for _, s := range sources(t) {
+		ast.Inspect(s.file, func(n ast.Node) bool {
+			if c, ok := n.(*ast.CallExpr); ok {
+				if f, ok := c.Fun.(*ast.Ident); ok && (f.Name == "print" || f.Name == "println") {
+					t.Errorf("%s: the program prints", s.line(c))
+				}
+			}
+			return true
+		})
+		for _, group := range s.file.Comments {
+			for _, c := range group.List {
+				if strings.HasPrefix(c.Text, "//go:") || strings.HasPrefix(c.Text, "// +build") {
+					t.Errorf("%s: %s", s.line(c), c.Text)
+				}
+			}
+		}
+	}
+}
+
+func TestLayout(t *testing.T) {
+	for _, s := range sources(t) {
+		want, err := format.Source(s.text)
+		if err != nil || !bytes.Equal(s.text, want) {
+			t.Errorf("%s: not in gofmt's layout: %v", s.path, err)
+		}
+		for _, d := range s.file.Decls {
+			f, ok := d.(*ast.FuncDecl)
+			if ok && s.set.Position(f.End()).Line-s.set.Position(f.Pos()).Line >= mostLines {
+				t.Errorf("%s: %s has more than %d lines", s.line(f), f.Name.Name, mostLines)
+			}
+		}
+	}
+}
+
+// noImports: types are told without what a package stands on.
+type noImports struct{}
+
+func (noImports) Import(path string) (*types.Package, error) {
+	return nil, errors.New("not looked at: " + path)
+}
+
+// waysOfInts: the carries that package ints takes, and what it ranges over.
+func waysOfInts(t *testing.T) map[string]bool {
+	t.Helper()
+	found := map[string]bool{}
+	set := token.NewFileSet()
+	var files []*ast.File
+	for _, s := range sources(t) {
+		if s.pack == "ints" {
+			file, err := parser.ParseFile(set, s.path, s.text, 0)
+			if err != nil {
+				t.Fatal(err)
+			}
+			files = append(files, file)
+		}
+	}
+	info := &types.Info{Types: map[ast.Expr]types.TypeAndValue{}}
+	config := types.Config{Importer: noImports{}, Error: func(error) {}}
+	config.Check("wayfarer/ints", set, files, info)
+	for _, file := range files {
+		ast.Inspect(file, func(n ast.Node) bool {
+			switch x := n.(type) {
+			case *ast.SelectorExpr:
+				found[types.ExprString(x)] = true
+			case *ast.RangeStmt:
+				if over := info.Types[x.X].Type; over != nil {
+					found["range over "+over.Underlying().String()] = true
+				}
+			}
+			return true
+		})
+	}
+	return found
+}
+
+func TestWaysOfInts(t *testing.T) {
+	found := waysOfInts(t)
+	for _, way := range []string{"bits.Add64", "bits.Mul64", "range over string", "range over []int"} {
+		if !found[way] {
+			t.Error("package ints has no", way)
+		}
+	}
+}
