@@ -170,14 +170,15 @@ func (noImports) Import(path string) (*types.Package, error) {
 	return nil, errors.New("not looked at: " + path)
 }
 
-// waysOfInts: the carries that package ints takes, and what it ranges over.
-func waysOfInts(t *testing.T) map[string]bool {
+// waysOf: what a package names of other ones, what it ranges over, and where
+// it hands on closures.
+func waysOf(t *testing.T, pack string) map[string]bool {
 	t.Helper()
 	found := map[string]bool{}
 	set := token.NewFileSet()
 	var files []*ast.File
 	for _, s := range sources(t) {
-		if s.pack == "ints" {
+		if s.pack == pack {
 			file, err := parser.ParseFile(set, s.path, s.text, 0)
 			if err != nil {
 				t.Fatal(err)
@@ -187,12 +188,16 @@ func waysOfInts(t *testing.T) map[string]bool {
 	}
 	info := &types.Info{Types: map[ast.Expr]types.TypeAndValue{}}
 	config := types.Config{Importer: noImports{}, Error: func(error) {}}
-	config.Check("wayfarer/ints", set, files, info)
+	config.Check("wayfarer/"+pack, set, files, info)
 	for _, file := range files {
 		ast.Inspect(file, func(n ast.Node) bool {
 			switch x := n.(type) {
 			case *ast.SelectorExpr:
 				found[types.ExprString(x)] = true
+			case *ast.FuncLit:
+				found["closure"] = true
+			case *ast.Ellipsis:
+				found["variadic "+types.ExprString(x.Elt)] = true
 			case *ast.RangeStmt:
 				if over := info.Types[x.X].Type; over != nil {
 					found["range over "+over.Underlying().String()] = true
@@ -204,11 +209,20 @@ func waysOfInts(t *testing.T) map[string]bool {
 	return found
 }
 
-func TestWaysOfInts(t *testing.T) {
-	found := waysOfInts(t)
-	for _, way := range []string{"bits.Add64", "bits.Mul64", "range over string", "range over []int"} {
+func checkWays(t *testing.T, pack string, ways ...string) {
+	t.Helper()
+	found := waysOf(t, pack)
+	for _, way := range ways {
 		if !found[way] {
-			t.Error("package ints has no", way)
+			t.Errorf("package %s has no %s", pack, way)
 		}
 	}
+}
+
+func TestWaysOfInts(t *testing.T) {
+	checkWays(t, "ints", "bits.Add64", "bits.Mul64", "range over string", "range over []int", "variadic int")
+}
+
+func TestWaysOfValue(t *testing.T) {
+	checkWays(t, "value", "cmp.Compare", "slices.CompareFunc", "closure", "variadic api.Value")
 }
