@@ -170,8 +170,9 @@ func (noImports) Import(path string) (*types.Package, error) {
 	return nil, errors.New("not looked at: " + path)
 }
 
-// waysOf: what a package names of other ones, what it ranges over, and where
-// it hands on closures.
+// waysOf: what a package names of other ones, what it ranges over, where it
+// hands on closures, whose pointers its methods have, and whether it tells
+// things apart by a switch with ranges.
 func waysOf(t *testing.T, pack string) map[string]bool {
 	t.Helper()
 	found := map[string]bool{}
@@ -198,6 +199,14 @@ func waysOf(t *testing.T, pack string) map[string]bool {
 				found["closure"] = true
 			case *ast.Ellipsis:
 				found["variadic "+types.ExprString(x.Elt)] = true
+			case *ast.FuncDecl:
+				if x.Recv != nil {
+					found["method of "+types.ExprString(x.Recv.List[0].Type)] = true
+				}
+			case *ast.CaseClause:
+				if slices.ContainsFunc(x.List, isRange) {
+					found["switch with ranges"] = true
+				}
 			case *ast.RangeStmt:
 				if over := info.Types[x.X].Type; over != nil {
 					found["range over "+over.Underlying().String()] = true
@@ -207,6 +216,17 @@ func waysOf(t *testing.T, pack string) map[string]bool {
 		})
 	}
 	return found
+}
+
+// isRange: two bounds, and what lies between them.
+func isRange(e ast.Expr) bool {
+	x, ok := e.(*ast.BinaryExpr)
+	return ok && x.Op == token.LAND && isBound(x.X) && isBound(x.Y)
+}
+
+func isBound(e ast.Expr) bool {
+	x, ok := e.(*ast.BinaryExpr)
+	return ok && (x.Op == token.LEQ || x.Op == token.LSS)
 }
 
 func checkWays(t *testing.T, pack string, ways ...string) {
@@ -225,4 +245,8 @@ func TestWaysOfInts(t *testing.T) {
 
 func TestWaysOfValue(t *testing.T) {
 	checkWays(t, "value", "cmp.Compare", "slices.CompareFunc", "closure", "variadic api.Value")
+}
+
+func TestWaysOfCode(t *testing.T) {
+	checkWays(t, "code", "range over int", "method of *reader", "switch with ranges")
 }
