@@ -250,3 +250,7 @@ func TestWaysOfValue(t *testing.T) {
 func TestWaysOfCode(t *testing.T) {
 	checkWays(t, "code", "range over int", "method of *reader", "switch with ranges")
 }
+
+func TestWaysOfBags(t *testing.T) {
+	checkWays(t, "bags", "slices.ContainsFunc", "slices.BinarySearchFunc", "slices.Insert", "closure", "ints.Add", "variadic api.Value")
+}
