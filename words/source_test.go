@@ -170,9 +170,9 @@ func (noImports) Import(path string) (*types.Package, error) {
 	return nil, errors.New("not looked at: " + path)
 }
 
-// waysOf: what a package names of other ones, what it ranges over, where it
-// hands on closures, whose pointers its methods have, and whether it tells
-// things apart by a switch with ranges.
+// waysOf: what a package names of other ones, what it ranges over, the keys of
+// its maps, where it hands on closures, whose pointers its methods have, and
+// whether it tells things apart by a switch with ranges.
 func waysOf(t *testing.T, pack string) map[string]bool {
 	t.Helper()
 	found := map[string]bool{}
@@ -197,6 +197,8 @@ func waysOf(t *testing.T, pack string) map[string]bool {
 				found[types.ExprString(x)] = true
 			case *ast.FuncLit:
 				found["closure"] = true
+			case *ast.MapType:
+				found["map of "+types.ExprString(x.Key)] = true
 			case *ast.Ellipsis:
 				found["variadic "+types.ExprString(x.Elt)] = true
 			case *ast.FuncDecl:
@@ -253,4 +255,8 @@ func TestWaysOfCode(t *testing.T) {
 
 func TestWaysOfBags(t *testing.T) {
 	checkWays(t, "bags", "slices.ContainsFunc", "slices.BinarySearchFunc", "slices.Insert", "closure", "ints.Add", "variadic api.Value")
+}
+
+func TestWaysOfGraph(t *testing.T) {
+	checkWays(t, "graph", "map of int", "slices.IndexFunc", "slices.ContainsFunc", "closure", "switch with ranges")
 }
