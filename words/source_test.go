@@ -171,8 +171,9 @@ func (noImports) Import(path string) (*types.Package, error) {
 }
 
 // waysOf: what a package names of other ones, what it ranges over, the keys of
-// its maps, where it hands on closures, whose pointers its methods have, and
-// whether it tells things apart by a switch with ranges.
+// its maps, and whether functions stand in one, whether it has interfaces,
+// where it hands on closures, whose pointers its methods have, and whether it
+// tells things apart by a switch with ranges.
 func waysOf(t *testing.T, pack string) map[string]bool {
 	t.Helper()
 	found := map[string]bool{}
@@ -199,6 +200,11 @@ func waysOf(t *testing.T, pack string) map[string]bool {
 				found["closure"] = true
 			case *ast.MapType:
 				found["map of "+types.ExprString(x.Key)] = true
+				if value := info.Types[x.Value].Type; value != nil && isFunction(value) {
+					found["map of functions"] = true
+				}
+			case *ast.InterfaceType:
+				found["interface"] = true
 			case *ast.Ellipsis:
 				found["variadic "+types.ExprString(x.Elt)] = true
 			case *ast.FuncDecl:
@@ -218,6 +224,11 @@ func waysOf(t *testing.T, pack string) map[string]bool {
 		})
 	}
 	return found
+}
+
+func isFunction(t types.Type) bool {
+	_, ok := t.Underlying().(*types.Signature)
+	return ok
 }
 
 // isRange: two bounds, and what lies between them.
@@ -259,4 +270,8 @@ func TestWaysOfBags(t *testing.T) {
 
 func TestWaysOfGraph(t *testing.T) {
 	checkWays(t, "graph", "map of int", "slices.IndexFunc", "slices.ContainsFunc", "closure", "switch with ranges")
+}
+
+func TestWaysOfScript(t *testing.T) {
+	checkWays(t, "script", "map of string", "map of functions", "interface")
 }
