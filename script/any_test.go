@@ -10,8 +10,8 @@ import (
 	"wayfarer/script"
 )
 
-// Lines of all kinds, in every order, up to four: each script is told as in the
-// plainest way.
+// Chosen lines in every order, up to three, and four of which the first lays a
+// vertex: each script is told as in the plainest way.
 func TestAllShortScripts(t *testing.T) {
 	few := []string{
 		"vertex 1 a", "vertex 0 b", "edge 1 a 1 0", "edge 0 b 0 0", "set vertex 1 k 1", "set vertex 1 j 'x y'", "set vertex 1 k [true]",
