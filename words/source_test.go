@@ -172,8 +172,9 @@ func (noImports) Import(path string) (*types.Package, error) {
 
 // waysOf: what a package names of other ones, what it ranges over, the keys of
 // its maps, and whether functions stand in one, whether it has interfaces,
-// where it hands on closures, whose pointers its methods have, and whether it
-// tells things apart by a switch with ranges.
+// where it hands on closures, whose pointers its methods have, what it embeds,
+// and which of that is promoted, and whether it tells things apart by a switch
+// with ranges.
 func waysOf(t *testing.T, pack string) map[string]bool {
 	t.Helper()
 	found := map[string]bool{}
@@ -188,42 +189,59 @@ func waysOf(t *testing.T, pack string) map[string]bool {
 			files = append(files, file)
 		}
 	}
-	info := &types.Info{Types: map[ast.Expr]types.TypeAndValue{}}
+	info := &types.Info{Types: map[ast.Expr]types.TypeAndValue{}, Selections: map[*ast.SelectorExpr]*types.Selection{}}
 	config := types.Config{Importer: noImports{}, Error: func(error) {}}
 	config.Check("wayfarer/"+pack, set, files, info)
 	for _, file := range files {
 		ast.Inspect(file, func(n ast.Node) bool {
-			switch x := n.(type) {
-			case *ast.SelectorExpr:
-				found[types.ExprString(x)] = true
-			case *ast.FuncLit:
-				found["closure"] = true
-			case *ast.MapType:
-				found["map of "+types.ExprString(x.Key)] = true
-				if value := info.Types[x.Value].Type; value != nil && isFunction(value) {
-					found["map of functions"] = true
-				}
-			case *ast.InterfaceType:
-				found["interface"] = true
-			case *ast.Ellipsis:
-				found["variadic "+types.ExprString(x.Elt)] = true
-			case *ast.FuncDecl:
-				if x.Recv != nil {
-					found["method of "+types.ExprString(x.Recv.List[0].Type)] = true
-				}
-			case *ast.CaseClause:
-				if slices.ContainsFunc(x.List, isRange) {
-					found["switch with ranges"] = true
-				}
-			case *ast.RangeStmt:
-				if over := info.Types[x.X].Type; over != nil {
-					found["range over "+over.Underlying().String()] = true
-				}
+			if n != nil {
+				lookAt(n, info, found)
 			}
 			return true
 		})
 	}
 	return found
+}
+
+// lookAt lays down which ways there are in n, but not in what is within it.
+func lookAt(n ast.Node, info *types.Info, found map[string]bool) {
+	switch x := n.(type) {
+	case *ast.SelectorExpr:
+		found[types.ExprString(x)] = true
+		// A promoted one is reached by way of what embeds it.
+		if s := info.Selections[x]; s != nil && len(s.Index()) > 1 {
+			found["promoted "+x.Sel.Name] = true
+		}
+	case *ast.FuncLit:
+		found["closure"] = true
+	case *ast.MapType:
+		found["map of "+types.ExprString(x.Key)] = true
+		if value := info.Types[x.Value].Type; value != nil && isFunction(value) {
+			found["map of functions"] = true
+		}
+	case *ast.InterfaceType:
+		found["interface"] = true
+	case *ast.StructType:
+		for _, f := range x.Fields.List {
+			if len(f.Names) == 0 {
+				found["embedding of "+types.ExprString(f.Type)] = true
+			}
+		}
+	case *ast.Ellipsis:
+		found["variadic "+types.ExprString(x.Elt)] = true
+	case *ast.FuncDecl:
+		if x.Recv != nil {
+			found["method of "+types.ExprString(x.Recv.List[0].Type)] = true
+		}
+	case *ast.CaseClause:
+		if slices.ContainsFunc(x.List, isRange) {
+			found["switch with ranges"] = true
+		}
+	case *ast.RangeStmt:
+		if over := info.Types[x.X].Type; over != nil {
+			found["range over "+over.Underlying().String()] = true
+		}
+	}
 }
 
 func isFunction(t types.Type) bool {
@@ -274,4 +292,8 @@ func TestWaysOfGraph(t *testing.T) {
 
 func TestWaysOfScript(t *testing.T) {
 	checkWays(t, "script", "map of string", "map of functions", "interface")
+}
+
+func TestWaysOfStore(t *testing.T) {
+	checkWays(t, "store", "embedding of table", "embedding of vertices", "embedding of edges", "promoted which", "promoted find", "promoted seen", "map of side", "variadic int", "variadic string")
 }
