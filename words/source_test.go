@@ -240,6 +240,9 @@ func lookAt(n ast.Node, info *types.Info, found map[string]bool) {
 	case *ast.RangeStmt:
 		if over := info.Types[x.X].Type; over != nil {
 			found["range over "+over.Underlying().String()] = true
+			if isFunction(over) {
+				found["range over a function"] = true
+			}
 		}
 	}
 }
@@ -296,4 +299,8 @@ func TestWaysOfScript(t *testing.T) {
 
 func TestWaysOfStore(t *testing.T) {
 	checkWays(t, "store", "embedding of table", "embedding of vertices", "embedding of edges", "promoted which", "promoted find", "promoted seen", "map of side", "variadic int", "variadic string")
+}
+
+func TestWaysOfLexer(t *testing.T) {
+	checkWays(t, "lexer", "iter.Seq", "range over a function", "closure", "switch with ranges", "ints.Parse")
 }
