@@ -173,8 +173,7 @@ func (noImports) Import(path string) (*types.Package, error) {
 // waysOf: what a package names of other ones, what it ranges over, the keys of
 // its maps, and whether functions stand in one, whether it has interfaces,
 // where it hands on closures, whose pointers its methods have, what it embeds,
-// and which of that is promoted, and whether it tells things apart by a switch
-// with ranges.
+// and which of that is promoted, and by what switches it tells things apart.
 func waysOf(t *testing.T, pack string) map[string]bool {
 	t.Helper()
 	found := map[string]bool{}
@@ -232,6 +231,10 @@ func lookAt(n ast.Node, info *types.Info, found map[string]bool) {
 	case *ast.FuncDecl:
 		if x.Recv != nil {
 			found["method of "+types.ExprString(x.Recv.List[0].Type)] = true
+		}
+	case *ast.SwitchStmt:
+		if x.Tag != nil {
+			found["switch by "+types.ExprString(x.Tag)] = true
 		}
 	case *ast.CaseClause:
 		if slices.ContainsFunc(x.List, isRange) {
@@ -303,4 +306,8 @@ func TestWaysOfStore(t *testing.T) {
 
 func TestWaysOfLexer(t *testing.T) {
 	checkWays(t, "lexer", "iter.Seq", "range over a function", "closure", "switch with ranges", "ints.Parse")
+}
+
+func TestWaysOfPred(t *testing.T) {
+	checkWays(t, "pred", "switch by p.Kind", "slices.ContainsFunc", "closure", "variadic api.Pred", "value.Check", "value.Same", "value.Cmp", "value.Copy")
 }
