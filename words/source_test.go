@@ -171,9 +171,10 @@ func (noImports) Import(path string) (*types.Package, error) {
 }
 
 // waysOf: what a package names of other ones, what it ranges over, the keys of
-// its maps, and whether functions stand in one, whether it has interfaces,
-// where it hands on closures, whose pointers its methods have, what it embeds,
-// and which of that is promoted, and by what switches it tells things apart.
+// its maps, and whether functions stand in one, what stands in its arrays,
+// whether it has interfaces, where it hands on closures, whose pointers its
+// methods have, what it embeds, and which of that is promoted (as far as it is
+// its own), and by what switches it tells things apart.
 func waysOf(t *testing.T, pack string) map[string]bool {
 	t.Helper()
 	found := map[string]bool{}
@@ -217,6 +218,10 @@ func lookAt(n ast.Node, info *types.Info, found map[string]bool) {
 		found["map of "+types.ExprString(x.Key)] = true
 		if value := info.Types[x.Value].Type; value != nil && isFunction(value) {
 			found["map of functions"] = true
+		}
+	case *ast.ArrayType:
+		if x.Len != nil {
+			found["array of "+types.ExprString(x.Elt)] = true
 		}
 	case *ast.InterfaceType:
 		found["interface"] = true
@@ -310,4 +315,9 @@ func TestWaysOfLexer(t *testing.T) {
 
 func TestWaysOfPred(t *testing.T) {
 	checkWays(t, "pred", "switch by p.Kind", "slices.ContainsFunc", "closure", "variadic api.Pred", "value.Check", "value.Same", "value.Cmp", "value.Copy")
+}
+
+// What a builder has is called by way of the writer that embeds it.
+func TestWaysOfTree(t *testing.T) {
+	checkWays(t, "tree", "embedding of strings.Builder", "w.WriteString", "w.WriteByte", "w.String", "array of string", "ints.Digits", "graph.Name", "value.Check", "value.Copy", "pred.Check", "pred.Copy")
 }
