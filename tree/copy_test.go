@@ -14,7 +14,7 @@ func TestCopy(t *testing.T) {
 	for _, a := range args() {
 		checkCopy(t, one(a), one(a))
 		for _, f := range arounds() {
-			deep := around(f, one(a), api.MaxNest-plainNest(one(a)))
+			deep := around(f, one(a), looked-plainNest(one(a)))
 			checkCopy(t, deep, deep)
 		}
 	}
@@ -41,21 +41,23 @@ func bare(l []api.Call) []api.Call {
 	return l
 }
 
-// A chain that stands below MaxNest is not there.
+// A chain within more than MaxNest of those within l is not there.
 func TestCopyDeep(t *testing.T) {
 	for _, f := range arounds() {
 		for _, last := range [][]api.Call{one(), many(3), one(sub(one()...)), chain(api.Call{}), tower(500)} {
-			cut := around(f, bare(f(last)), api.MaxNest-1)
-			checkCopy(t, around(f, last, api.MaxNest), cut)
-			checkCopy(t, around(f, last, api.MaxNest+5), cut)
+			cut := around(f, bare(f(last)), looked-1)
+			checkCopy(t, around(f, last, looked), cut)
+			checkCopy(t, around(f, last, looked+5), cut)
+			checkCopy(t, around(f, last, looked-1), around(f, bare(last), looked-1))
 		}
-		checkCopy(t, around(f, many(3), api.MaxNest-1), around(f, many(3), api.MaxNest-1))
+		checkCopy(t, around(f, many(3), looked-1), around(f, many(3), looked-1))
 	}
 	// All else that stands beside it is there.
 	wide := func(l []api.Call) []api.Call {
 		return one(val(num(1)), api.Arg{Kind: api.ArgChain, V: num(2), P: eq(3), C: l, S: "x"}, asked(eq(1)))
 	}
-	checkCopy(t, around(wide, many(2), api.MaxNest), around(wide, nil, api.MaxNest))
+	checkCopy(t, around(wide, many(2), looked), around(wide, nil, looked))
+	checkCopy(t, around(wide, many(2), looked-1), around(wide, many(2), looked-1))
 }
 
 // Predicates and values are as pred.Copy and value.Copy make them.
@@ -70,10 +72,10 @@ func TestCopyDeepValuesAndPreds(t *testing.T) {
 
 // What is in itself has a copy that ends.
 func TestCopyOfWhatIsInItself(t *testing.T) {
-	checkCopy(t, inItself(1, 1), around(arounds()[0], nil, api.MaxNest))
+	checkCopy(t, inItself(1, 1), around(arounds()[0], nil, looked))
 	both := func(l []api.Call) []api.Call { return one(sub(l...), sub(l...)) }
-	checkCopy(t, inItself(1, 2), around(both, nil, api.MaxNest))
-	if l := tree.Copy(inItself(2, 1)); tree.Nest(l) != api.MaxNest || len(l) != 2 {
+	checkCopy(t, inItself(1, 2), around(both, nil, looked))
+	if l := tree.Copy(inItself(2, 1)); plainNest(l) != looked || len(l) != 2 {
 		t.Error(show(l))
 	}
 }

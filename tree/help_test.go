@@ -11,6 +11,10 @@ import (
 	"wayfarer/value"
 )
 
+// looked: so many chains within one another are looked at: l, and MaxNest of
+// those within it.
+const looked = 11
+
 // Short names for what the tests are made of.
 var (
 	num  = value.Number

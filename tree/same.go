@@ -15,7 +15,7 @@ func Same(a []api.Call, b []api.Call) bool {
 // sameAt compares two chains that stand at that level, as far down as Copy
 // copies them.
 func sameAt(a, b []api.Call, level int) bool {
-	if level > api.MaxNest {
+	if level > bottom {
 		return true
 	}
 	sameArg := func(x, y api.Arg) bool {
@@ -26,18 +26,4 @@ func sameAt(a, b []api.Call, level int) bool {
 		return x.Name == y.Name && slices.EqualFunc(x.Args, y.Args, sameArg)
 	}
 	return slices.EqualFunc(a, b, sameCall)
-}
-
-func samePred(p, q api.Pred) bool {
-	return samePredAt(p, q, top)
-}
-
-// samePredAt compares two predicates that stand at that level, as far down as
-// pred.Copy copies them.
-func samePredAt(p, q api.Pred, level int) bool {
-	if p.Kind != q.Kind || level > api.MaxDepth {
-		return p.Kind == q.Kind
-	}
-	below := func(x, y api.Pred) bool { return samePredAt(x, y, level+1) }
-	return slices.EqualFunc(p.V, q.V, value.Same) && slices.EqualFunc(p.P, q.P, below)
 }

@@ -91,11 +91,11 @@ func TestSameButForOnePlace(t *testing.T) {
 	checkSame(t, base(), append(base(), call("a")), false)
 }
 
-// A chain that stands below MaxNest counts for nothing.
+// A chain within more than MaxNest of those within l counts for nothing.
 func TestSameDeep(t *testing.T) {
 	for _, f := range arounds() {
-		for height := 1; height <= api.MaxNest+4; height++ {
-			seen := height <= api.MaxNest
+		for height := 1; height <= looked+4; height++ {
+			seen := height <= looked
 			a, b := around(f, one(), height-1), around(f, chain(call("z")), height-1)
 			checkSame(t, a, b, !seen)
 			checkSame(t, a, around(f, one(word("x")), height-1), !seen)
@@ -105,28 +105,17 @@ func TestSameDeep(t *testing.T) {
 			}
 			checkSame(t, a, tree.Copy(a), true)
 		}
-		// The argument that a chain below MaxNest is, is seen for all that.
-		a, b := around(f, one(sub(one()...)), api.MaxNest-1), around(f, one(word("x")), api.MaxNest-1)
+		// The argument that a chain is that counts for nothing is seen for all
+		// that.
+		a, b := around(f, one(sub(one()...)), looked-1), around(f, one(word("x")), looked-1)
 		checkSame(t, a, b, false)
-		checkSame(t, a, around(f, one(), api.MaxNest-1), false)
-		checkSame(t, a, around(f, one(sub(one()...), sub(one()...)), api.MaxNest-1), false)
-		checkSame(t, a, around(f, one(sub()), api.MaxNest-1), true)
+		checkSame(t, a, around(f, one(), looked-1), false)
+		checkSame(t, a, around(f, one(sub(one()...), sub(one()...)), looked-1), false)
+		checkSame(t, a, around(f, one(sub()), looked-1), true)
 	}
-	checkSame(t, tower(api.MaxNest+1), tower(api.MaxNest), false)
-	checkSame(t, tower(api.MaxNest+1), tower(api.MaxNest+2), true)
+	checkSame(t, tower(looked+1), tower(looked), false)
+	checkSame(t, tower(looked+1), tower(looked+2), true)
 	checkSame(t, tower(5000), tower(6000), true)
-}
-
-// A predicate that stands below MaxDepth counts by its kind, as pred.Copy makes
-// it.
-func TestSameDeepPreds(t *testing.T) {
-	for times := range api.MaxDepth + 3 {
-		a, b := one(asked(nots(eq(1), times))), one(asked(nots(eq(2), times)))
-		checkSame(t, a, b, times >= api.MaxDepth)
-		checkSame(t, a, one(asked(nots(of(api.Neq, num(1)), times))), times > api.MaxDepth)
-		checkSame(t, a, one(asked(nots(of(api.Eq), times))), times >= api.MaxDepth)
-		checkSame(t, a, tree.Copy(a), true)
-	}
 }
 
 func TestSameOfWhatIsInItself(t *testing.T) {
@@ -135,15 +124,10 @@ func TestSameOfWhatIsInItself(t *testing.T) {
 	checkSame(t, l, inItself(1, 1), true)
 	checkSame(t, inItself(2, 1), inItself(2, 1), true)
 	checkSame(t, l, inItself(2, 1), false)
-	checkSame(t, l, tower(api.MaxNest), false)
-	checkSame(t, l, tower(api.MaxNest+1), true)
+	checkSame(t, l, tower(looked), false)
+	checkSame(t, l, tower(looked+1), true)
 	checkSame(t, l, tree.Copy(l), true)
 	checkSame(t, inItself(api.MaxCalls, api.MaxArgs), inItself(api.MaxCalls, api.MaxArgs+1), false)
-	for _, p := range []api.Pred{endlessPred(api.Not, 1), endlessPred(77, 1), endlessPred(api.And, 2)} {
-		checkSame(t, one(asked(p)), one(asked(p)), true)
-		checkSame(t, one(asked(p)), one(asked(not(p))), p.Kind == api.Not)
-		checkSame(t, one(asked(p)), tree.Copy(one(asked(p))), true)
-	}
 	checkSame(t, one(val(endlessList(1))), one(val(endlessList(1))), true)
 	checkSame(t, one(val(endlessList(1))), one(val(within(num(1), 5))), false)
 }

@@ -33,14 +33,14 @@ func TestNestAndCallsOfNoChain(t *testing.T) {
 func TestNestEnds(t *testing.T) {
 	for height := 1; height <= 40; height++ {
 		most := min(height, api.MaxNest+1)
-		checkSize(t, tower(height), most, min(height, api.MaxNest))
-		checkSize(t, append(one(), tower(height)...), most, min(height, api.MaxNest)+1)
+		checkSize(t, tower(height), most, min(height, looked))
+		checkSize(t, append(one(), tower(height)...), most, min(height, looked)+1)
 		for _, f := range arounds() {
 			l := around(f, one(), height-1)
 			checkSize(t, l, most, plainCalls(l, 1))
 		}
 	}
-	checkSize(t, tower(5000), api.MaxNest+1, api.MaxNest)
+	checkSize(t, tower(5000), api.MaxNest+1, looked)
 }
 
 func TestCallsEnd(t *testing.T) {
@@ -51,12 +51,14 @@ func TestCallsEnd(t *testing.T) {
 		checkSize(t, one(sub(many(n-2)...), sub(one()...)), 2, most)
 		checkSize(t, append(one(sub(many(n-3)...)), many(2)...), 2, most)
 		checkSize(t, around(arounds()[0], many(n-api.MaxNest+1), api.MaxNest-1), api.MaxNest, most)
+		checkSize(t, around(arounds()[0], many(n-looked+1), looked-1), looked, most)
+		checkSize(t, around(arounds()[0], many(n), looked), looked, looked)
 	}
 }
 
 func TestSizeOfWhatIsInItself(t *testing.T) {
-	checkSize(t, inItself(1, 1), api.MaxNest+1, api.MaxNest)
-	checkSize(t, append(many(3), inItself(1, 1)...), api.MaxNest+1, api.MaxNest+3)
+	checkSize(t, inItself(1, 1), api.MaxNest+1, looked)
+	checkSize(t, append(many(3), inItself(1, 1)...), api.MaxNest+1, looked+3)
 	for _, calls := range []int{1, 2, 1000} {
 		for _, args := range []int{2, api.MaxArgs, 1000} {
 			checkSize(t, inItself(calls, args), api.MaxNest+1, api.MaxCalls+1)
@@ -64,10 +66,10 @@ func TestSizeOfWhatIsInItself(t *testing.T) {
 	}
 }
 
-// plainCalls: how many calls there are in l, which stands at that level, and in
-// it down to MaxNest.
+// plainCalls: how many calls there are in l, which stands at that level, as far
+// down as is looked.
 func plainCalls(l []api.Call, level int) int {
-	if level > 10 {
+	if level > looked {
 		return 0
 	}
 	n := len(l)
