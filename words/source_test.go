@@ -172,9 +172,10 @@ func (noImports) Import(path string) (*types.Package, error) {
 
 // waysOf: what a package names of other ones, what it ranges over, the keys of
 // its maps, and whether functions stand in one, what stands in its arrays,
-// whether it has interfaces, where it hands on closures, whose pointers its
-// methods have, what it embeds, and which of that is promoted (as far as it is
-// its own), and by what switches it tells things apart.
+// whether it has interfaces, where it hands on closures, to what functions are
+// handed in, whose pointers its methods have, what it embeds, and which of that
+// is promoted (as far as it is its own), and by what switches it tells things
+// apart.
 func waysOf(t *testing.T, pack string) map[string]bool {
 	t.Helper()
 	found := map[string]bool{}
@@ -236,6 +237,11 @@ func lookAt(n ast.Node, info *types.Info, found map[string]bool) {
 	case *ast.FuncDecl:
 		if x.Recv != nil {
 			found["method of "+types.ExprString(x.Recv.List[0].Type)] = true
+		}
+		for _, f := range x.Type.Params.List {
+			if _, ok := f.Type.(*ast.FuncType); ok {
+				found["function handed in to "+x.Name.Name] = true
+			}
 		}
 	case *ast.SwitchStmt:
 		if x.Tag != nil {
@@ -320,4 +326,10 @@ func TestWaysOfPred(t *testing.T) {
 // What a builder has is called by way of the writer that embeds it.
 func TestWaysOfTree(t *testing.T) {
 	checkWays(t, "tree", "embedding of strings.Builder", "w.WriteString", "w.WriteByte", "w.String", "array of string", "ints.Digits", "graph.Name", "value.Check", "value.Copy", "pred.Check", "pred.Copy")
+}
+
+// A row of tokens is embedded, and its own methods are called by way of the
+// reader.
+func TestWaysOfParser(t *testing.T) {
+	checkWays(t, "parser", "embedding of row", "promoted next", "promoted place", "promoted take", "promoted skip", "function handed in to between", "closure", "lexer.All", "graph.Name", "tree.Print")
 }
