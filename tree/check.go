@@ -6,6 +6,7 @@ import (
 	"wayfarer/api"
 	"wayfarer/graph"
 	"wayfarer/pred"
+	"wayfarer/rows"
 	"wayfarer/value"
 )
 
@@ -50,7 +51,7 @@ func isArg(a api.Arg) bool {
 // fits tells whether a has no field that another kind has.
 func fits(a api.Arg) bool {
 	return (a.Kind == api.ArgValue || value.Same(a.V, api.Value{})) &&
-		(a.Kind == api.ArgPred || samePred(a.P, api.Pred{})) &&
+		(a.Kind == api.ArgPred || rows.SamePreds(a.P, api.Pred{})) &&
 		(a.Kind == api.ArgChain || len(a.C) == 0) &&
 		(a.Kind == api.ArgWord || a.S == "")
 }

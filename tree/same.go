@@ -4,6 +4,7 @@ import (
 	"slices"
 
 	"wayfarer/api"
+	"wayfarer/rows"
 	"wayfarer/value"
 )
 
@@ -20,7 +21,7 @@ func sameAt(a, b []api.Call, level int) bool {
 	}
 	sameArg := func(x, y api.Arg) bool {
 		return x.Kind == y.Kind && x.S == y.S && value.Same(x.V, y.V) &&
-			samePred(x.P, y.P) && sameAt(x.C, y.C, level+1)
+			rows.SamePreds(x.P, y.P) && sameAt(x.C, y.C, level+1)
 	}
 	sameCall := func(x, y api.Call) bool {
 		return x.Name == y.Name && slices.EqualFunc(x.Args, y.Args, sameArg)
