@@ -171,11 +171,12 @@ func (noImports) Import(path string) (*types.Package, error) {
 }
 
 // waysOf: what a package names of other ones, what it ranges over, the keys of
-// its maps, and whether functions stand in one, what stands in its arrays,
-// whether it has interfaces, where it hands on closures, to what functions are
-// handed in, whose pointers its methods have, what it embeds, and which of that
-// is promoted (as far as it is its own), and by what switches it tells things
-// apart.
+// its maps, and whether functions stand in one, what stands in its arrays, and
+// whether their indexes are named, which tables are literals at their
+// declaration, whether it has interfaces, where it hands on closures, to what
+// functions are handed in, whose pointers its methods have, what it embeds, and
+// which of that is promoted (as far as it is its own), and by what switches it
+// tells things apart.
 func waysOf(t *testing.T, pack string) map[string]bool {
 	t.Helper()
 	found := map[string]bool{}
@@ -194,6 +195,9 @@ func waysOf(t *testing.T, pack string) map[string]bool {
 	config := types.Config{Importer: noImports{}, Error: func(error) {}}
 	config.Check("wayfarer/"+pack, set, files, info)
 	for _, file := range files {
+		for _, d := range file.Decls {
+			lookForTables(d, found)
+		}
 		ast.Inspect(file, func(n ast.Node) bool {
 			if n != nil {
 				lookAt(n, info, found)
@@ -202,6 +206,22 @@ func waysOf(t *testing.T, pack string) map[string]bool {
 		})
 	}
 	return found
+}
+
+// lookForTables lays down which variables of the package are declared with what
+// stands in them.
+func lookForTables(d ast.Decl, found map[string]bool) {
+	group, ok := d.(*ast.GenDecl)
+	if !ok {
+		return
+	}
+	for _, s := range group.Specs {
+		if v, ok := s.(*ast.ValueSpec); ok && len(v.Names) == 1 && len(v.Values) == 1 {
+			if _, ok := v.Values[0].(*ast.CompositeLit); ok {
+				found["table "+v.Names[0].Name] = true
+			}
+		}
+	}
 }
 
 // lookAt lays down which ways there are in n, but not in what is within it.
@@ -223,6 +243,10 @@ func lookAt(n ast.Node, info *types.Info, found map[string]bool) {
 	case *ast.ArrayType:
 		if x.Len != nil {
 			found["array of "+types.ExprString(x.Elt)] = true
+		}
+	case *ast.CompositeLit:
+		if a, ok := x.Type.(*ast.ArrayType); ok && a.Len != nil && !slices.ContainsFunc(x.Elts, isUnnamed) {
+			found["named indexes of "+types.ExprString(a.Elt)] = true
 		}
 	case *ast.InterfaceType:
 		found["interface"] = true
@@ -264,6 +288,16 @@ func lookAt(n ast.Node, info *types.Info, found map[string]bool) {
 func isFunction(t types.Type) bool {
 	_, ok := t.Underlying().(*types.Signature)
 	return ok
+}
+
+// isUnnamed: an item whose index no constant names.
+func isUnnamed(e ast.Expr) bool {
+	x, ok := e.(*ast.KeyValueExpr)
+	if !ok {
+		return true
+	}
+	_, number := x.Key.(*ast.BasicLit)
+	return number
 }
 
 // isRange: two bounds, and what lies between them.
@@ -332,4 +366,9 @@ func TestWaysOfTree(t *testing.T) {
 // reader.
 func TestWaysOfParser(t *testing.T) {
 	checkWays(t, "parser", "embedding of row", "promoted next", "promoted place", "promoted take", "promoted skip", "function handed in to between", "closure", "lexer.All", "graph.Name", "tree.Print")
+}
+
+// Names, and shapes, are found by the names of Ops.
+func TestWaysOfPlan(t *testing.T) {
+	checkWays(t, "plan", "table names", "named indexes of string", "named indexes of shape", "variadic int", "iter.Seq", "closure", "function handed in to has", "slices.Contains", "graph.Name", "value.Check", "value.Copy", "value.Same", "pred.Check", "pred.Copy")
 }
